@@ -181,6 +181,25 @@ func TestReadOutOfBounds(t *testing.T) {
 	}
 }
 
+// P502: 0 may be a cookie, too; the first number beyond all is none, though it looks like 0.
+func TestReadNought(t *testing.T) {
+	r := rand.New(rand.NewSource(8))
+	for range 1000000 {
+		g, f := Ring(4, api.Key{}, someKey(r)), someFlow(r)
+		if Make(g, api.Gram, f, 9) != 0 {
+			continue
+		}
+		if slot, is := Read(g, api.Gram, f, 0); slot != 9 || !is {
+			t.Errorf("%d %v", slot, is)
+		}
+		if slot, is := Read(g, api.Gram, f, 1<<16); slot != 0 || is {
+			t.Errorf("%d %v", slot, is)
+		}
+		return
+	}
+	t.Error("none is 0")
+}
+
 // P503
 func TestPutGet(t *testing.T) {
 	for _, x := range []struct {

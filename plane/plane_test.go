@@ -456,6 +456,34 @@ func TestIn(t *testing.T) {
 	}
 }
 
+// flowOf is one whose cookie for the slot is that number.
+func flowOf(t *testing.T, x api.Pool, kind, slot, c int) api.Flow {
+	t.Helper()
+	for n := range 30000000 {
+		f := api.Flow{Addr: n, Port: 1, ToAddr: ownAddr, ToPort: ownPort}
+		if cookie.Make(x.Ring, kind, f, slot) == c && wheel.Pick(wheel.Make(x), f) != slot {
+			return f
+		}
+	}
+	t.Fatalf("none has cookie %d", c)
+	return api.Flow{}
+}
+
+// P904: a gram's label of 0 is no cookie, nor is what opens a flow asked for one, though 0 would be read.
+func TestCookieNought(t *testing.T) {
+	x := mixed(t)
+	for i, c := range []struct {
+		kind, flags, c int
+		by             bool
+	}{{api.Gram, 0, 0, false}, {api.Gram, 0, 1, true}, {api.Stream, 0, 0, true}, {api.Stream, api.Opening, 0, false}} {
+		f := flowOf(t, x, c.kind, 2, c.c)
+		in := api.Packet{Kind: c.kind, Life: 2, From: f.Addr, FromPort: f.Port, To: ownAddr, ToPort: ownPort, Flags: c.flags, Label: c.c, Opts: opts.Make(9, 0)}
+		if o := up(x).Take(build(t, in)); o.Drop != api.OK || o.Cookie != c.by || (o.Slot == 2) != c.by {
+			t.Errorf("%d: %+v", i, o)
+		}
+	}
+}
+
 // P904: an echo is given back as it was, but for its lowest bits.
 func TestEchoBack(t *testing.T) {
 	x := mixed(t)

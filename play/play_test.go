@@ -9,6 +9,7 @@ import (
 	"testing"
 
 	"roundhouse/api"
+	"roundhouse/cookie"
 	"roundhouse/opts"
 	"roundhouse/wire"
 )
@@ -176,6 +177,20 @@ func TestPackets(t *testing.T) {
 		if got := lastOf(t, ready+between+"packet 2 "+back); !strings.HasPrefix(got, "to ") || !strings.Contains(got, " wheel ") {
 			t.Errorf("%q: %q", between, got)
 		}
+	}
+}
+
+// P1302: the keys at first, and those that rotate brings.
+func TestKeys(t *testing.T) {
+	script := "add 20 8000 1\ntick\nall\ntick\nall\ntick\nall\n"
+	out := built(t, api.Packet{Kind: api.Gram, Life: 9, From: 20, FromPort: 8000, To: 50, ToPort: 1})
+	for i, k := range []api.Key{{A: 1, B: 1}, {A: 2, B: 2}, {A: 5, B: 6}, {A: 1<<64 - 1, B: 7}, {A: 1 << 62, B: 1<<63 - 1}} {
+		c := cookie.Make(cookie.Ring(1+i, api.Key{}, k), api.Gram, api.Flow{Addr: 50, Port: 1, ToAddr: 10, ToPort: 80}, 0)
+		want := "out " + built(t, api.Packet{Kind: api.Gram, Life: 8, From: 10, FromPort: 80, To: 50, ToPort: 1, Label: c})
+		if got := lastOf(t, script+"packet 1 "+out); got != want {
+			t.Errorf("epoch %d: %q, not %q", i+1, got, want)
+		}
+		script += []string{"rotate 5 6", "wish rotate 18446744073709551615 7", "rotate 4611686018427387904 9223372036854775807", "rotate 0 0", "tick"}[i] + "\ntick\nall\n"
 	}
 }
 

@@ -76,7 +76,7 @@ func port(r *rand.Rand) int { return []int{0, 65535, r.Intn(65536)}[r.Intn(3)] }
 // some makes a packet that may be.
 func some(r *rand.Rand) api.Packet {
 	p := api.Packet{Kind: 1 + r.Intn(3), Life: []int{0, 1, 2, 255, r.Intn(256)}[r.Intn(5)], Piece: r.Intn(256), From: addr(r), To: addr(r)}
-	p.Data = list(r, []int{0, 1, 2, 24, r.Intn(80)}[r.Intn(5)])
+	p.Data = list(r, []int{0, 1, 2, 24, r.Intn(80), r.Intn(1400), 1400}[r.Intn(7)])
 	switch p.Kind {
 	case api.Fault:
 		p.Code = r.Intn(256)
