@@ -160,10 +160,10 @@ func TestPackets(t *testing.T) {
 	)
 	ready := "add 20 8000 1\nadd 21 8000 8\ntick\nall\ntick\nall\ntick\nall\nadd 21 8000 8\ntick\nall\ntick\nall\n"
 	answer := strings.Fields(lastOf(t, ready+"packet 1 "+built(t, out)))
-	if len(answer) != 2 || answer[0] != "out" {
+	if len(answer) != 3 || answer[0] != "to" || answer[1] != "out" {
 		t.Fatalf("%v", answer)
 	}
-	b, _ := Bytes(answer[1])
+	b, _ := Bytes(answer[2])
 	p, _ := wire.Parse(b)
 	_, val, _, _ := opts.Stamp(p.Opts)
 	back := built(t, api.Packet{Kind: api.Stream, Life: 9, From: 50, FromPort: 1, To: 10, ToPort: 80, Opts: opts.Make(1, val)})
@@ -180,13 +180,44 @@ func TestPackets(t *testing.T) {
 	}
 }
 
+// P1302: where a packet goes to a client, `out` stands in the slot's place, and no word behind it tells what chose.
+func TestOut(t *testing.T) {
+	ready := "add 100 8000 1\ntick\nall\ntick\nall\ntick\nall\n"
+	gram := api.Packet{Kind: api.Gram, Life: 9, From: 100, FromPort: 8000, To: 7, ToPort: 777}
+	if got := lastOf(t, ready+"packet 2 "+built(t, gram)); got != "to out 020800180000000a000000070000fdce005003095610a67b" {
+		t.Errorf("%q", got)
+	}
+	bare, full := gram, gram
+	bare.Bare, full.Data = true, []byte{1, 2, 3}
+	plain := gram
+	plain.Kind, plain.Flags = api.Stream, api.Opening
+	stamped := plain
+	stamped.Opts = opts.Make(1, 2)
+	for i, p := range []api.Packet{gram, bare, full, plain, stamped} {
+		got := strings.Split(lastOf(t, ready+"packet 0 "+built(t, p)), " ")
+		if len(got) != 3 || got[0] != "to" || got[1] != "out" {
+			t.Fatalf("%d: %q", i, got)
+		}
+		b, is := Bytes(got[2])
+		on, no := wire.Parse(b)
+		if !is || no != api.OK || on.To != 7 || on.ToPort != 777 || on.From != 10 || on.FromPort != 80 || on.Life != 8 {
+			t.Errorf("%d: %v %v", i, on, no)
+		}
+		dropped := p
+		dropped.Life = 1
+		if got := lastOf(t, ready+"packet 0 "+built(t, dropped)); got != api.Expired.Error() {
+			t.Errorf("%d: %q", i, got)
+		}
+	}
+}
+
 // P1302: the keys at first, and those that rotate brings.
 func TestKeys(t *testing.T) {
 	script := "add 20 8000 1\ntick\nall\ntick\nall\ntick\nall\n"
 	out := built(t, api.Packet{Kind: api.Gram, Life: 9, From: 20, FromPort: 8000, To: 50, ToPort: 1})
 	for i, k := range []api.Key{{A: 1, B: 1}, {A: 2, B: 2}, {A: 5, B: 6}, {A: 1<<64 - 1, B: 7}, {A: 1 << 62, B: 1<<63 - 1}} {
 		c := cookie.Make(cookie.Ring(1+i, api.Key{}, k), api.Gram, api.Flow{Addr: 50, Port: 1, ToAddr: 10, ToPort: 80}, 0)
-		want := "out " + built(t, api.Packet{Kind: api.Gram, Life: 8, From: 10, FromPort: 80, To: 50, ToPort: 1, Label: c})
+		want := "to out " + built(t, api.Packet{Kind: api.Gram, Life: 8, From: 10, FromPort: 80, To: 50, ToPort: 1, Label: c})
 		if got := lastOf(t, script+"packet 1 "+out); got != want {
 			t.Errorf("epoch %d: %q, not %q", i+1, got, want)
 		}

@@ -173,17 +173,29 @@ func (s *stage) packet(words []string) (string, bool) {
 }
 
 func outcome(o api.Outcome) string {
-	switch {
-	case o.Drop != api.OK:
+	if o.Drop != api.OK {
 		return o.Drop.Error()
-	case o.Slot < 0:
-		return "out " + Hex(o.Bytes)
 	}
-	by := "wheel"
-	if o.Cookie {
-		by = "cookie"
+	words := []string{"to", place(o.Slot)}
+	if o.Slot >= 0 {
+		words = append(words, chosenBy(o.Cookie))
 	}
-	return strings.Join([]string{"to", strconv.Itoa(o.Slot), by, Hex(o.Bytes)}, " ")
+	return strings.Join(append(words, Hex(o.Bytes)), " ")
+}
+
+// place tells where a packet goes: to a slot, or out to a client.
+func place(slot int) string {
+	if slot < 0 {
+		return "out"
+	}
+	return strconv.Itoa(slot)
+}
+
+func chosenBy(cookie bool) string {
+	if cookie {
+		return "cookie"
+	}
+	return "wheel"
 }
 
 func (s *stage) probe(words []string) (string, bool) {
